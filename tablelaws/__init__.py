@@ -1,0 +1,1 @@
+"""Tablelaws: when two programs over small square matrices are alike."""
