@@ -5,7 +5,6 @@ from tablelaws.names import name_kind
 from tablelaws.ratios import Ratio
 
 MOST_NAMES = 6
-MOST_POWER = 6
 # The greatest integer of 6 digits.
 MOST_PART = 999999
 

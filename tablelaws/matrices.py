@@ -15,9 +15,8 @@ class Matrix:
 
     def __init__(self, rows):
         check_size(len(rows))
-        for row in rows:
-            if len(row) != len(rows):
-                raise WrongSize(f"a row has {len(row)} entries and not {len(rows)}")
+        if any([len(row) != len(rows) for row in rows]):
+            raise WrongSize(f"a row does not have {len(rows)} entries")
         self.size = len(rows)
         self.rows = tuple([tuple([_ratio_of(entry) for entry in row]) for row in rows])
 

@@ -20,6 +20,29 @@ def poly(kind, *terms):
     return Poly(kind, [(cycles, word, ratio(text)) for text, cycles, word in terms])
 
 
+def expanded(program, size):
+    """The polynomial of the result by points 42 and 43."""
+    found = []
+    for word, *rest in program.steps:
+        if word == "letter":
+            found.append(Poly.letter(rest[0]))
+        elif word == "one":
+            found.append(Poly.constant("matrix", Ratio(1)))
+        elif word == "const":
+            found.append(Poly.constant("number", rest[0]))
+        elif word == "scale":
+            found.append(found[rest[1]].scaled(rest[0]))
+        elif word == "trace":
+            found.append(found[rest[0]].traced(size))
+        elif word == "power":
+            found.append(found[rest[0]].power(rest[1]))
+        else:
+            first, second = found[rest[0]], found[rest[1]]
+            found.append({"sum": lambda: first + second, "diff": lambda: first - second,
+                          "times": lambda: first * second}[word]())
+    return found[program.result]
+
+
 class WritingTest(unittest.TestCase):
     def assert_written(self, value):
         text = write_program(value)
@@ -28,6 +51,7 @@ class WritingTest(unittest.TestCase):
         self.assertEqual(program.kind, value.kind)
         self.assertEqual(program.letters, value.used_letters())
         for size in (1, 2, 3):
+            self.assertEqual(expanded(program, size), value)
             matrices = some_matrices(value.used_letters(), size, seed=size)
             self.assertEqual(plain(run_program(program, size, matrices)), poly_value(value, size, matrices))
 
