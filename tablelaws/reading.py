@@ -173,11 +173,11 @@ def _steps_of(scope, operation, function):
     if function is None:
         return ([redirected(operation, scope.places)], first)
     targets = [scope.places[name] for name in _names_in(operation)]
-    steps = []
+    added = []
     for step in function.steps:
-        steps.append(redirected(step, targets))
-        targets.append(first + len(steps) - 1)
-    return (steps, targets[function.place])
+        added.append(redirected(step, targets))
+        targets.append(first + len(added) - 1)
+    return (added, targets[function.place])
 
 
 def _measure_steps(state, steps, number):
