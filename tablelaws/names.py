@@ -7,12 +7,13 @@ def name_kind(name):
     """Returns the kind of a name, and None for a string that is not a name."""
     if not 1 <= len(name) <= MOST_LENGTH:
         return None
-    if _are_small(name):
+    if are_small(name):
         return "matrix"
-    if name[0] in "ABCDEFGHIJKLMNOPQRSTUVWXYZ" and _are_small(name[1:]):
+    if name[0] in "ABCDEFGHIJKLMNOPQRSTUVWXYZ" and are_small(name[1:]):
         return "number"
     return None
 
 
-def _are_small(text):
+def are_small(text):
+    """Tells whether a text consists of small letters only; the empty text does."""
     return all([letter in "abcdefghijklmnopqrstuvwxyz" for letter in text])

@@ -33,7 +33,7 @@ class PermSum:
 
     def __add__(self, other):
         _check_same_places(self, other)
-        return PermSum(self.places, self._pairs() + other._pairs())
+        return PermSum(self.places, self.pairs() + other.pairs())
 
     def __sub__(self, other):
         return self + -other
@@ -54,9 +54,10 @@ class PermSum:
 
     def scaled(self, ratio):
         """Returns the sum with all coefficients multiplied by a fraction."""
-        return PermSum(self.places, [(perm, ratio * factor) for perm, factor in self._pairs()])
+        return PermSum(self.places, [(perm, ratio * factor) for perm, factor in self.pairs()])
 
-    def _pairs(self):
+    def pairs(self):
+        """Returns the list of the pairs of a permutation and its coefficient, in ascending order."""
         return list(self._ratios.items())
 
 

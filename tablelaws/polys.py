@@ -49,7 +49,7 @@ class Poly:
     def __add__(self, other):
         if self.kind != other.kind:
             raise WrongKind(f"the kinds {self.kind} and {other.kind} differ")
-        return Poly(self.kind, self._triples() + other._triples())
+        return Poly(self.kind, self.triples() + other.triples())
 
     def __sub__(self, other):
         return self + -other
@@ -67,7 +67,7 @@ class Poly:
 
     def scaled(self, ratio):
         """Returns the polynomial with all coefficients multiplied by a fraction."""
-        return Poly(self.kind, [(cycles, word, ratio * factor) for cycles, word, factor in self._triples()])
+        return Poly(self.kind, [(cycles, word, ratio * factor) for cycles, word, factor in self.triples()])
 
     def power(self, exponent):
         """Returns the product of `exponent` factors; the constant 1 of the same kind for the exponent 0."""
@@ -81,7 +81,7 @@ class Poly:
         if self.kind == "number":
             raise WrongKind("a number has no trace")
         triples = []
-        for cycles, word, ratio in self._triples():
+        for cycles, word, ratio in self.triples():
             if word == "":
                 triples.append((cycles, "", ratio * Ratio(size)))
             else:
@@ -93,5 +93,6 @@ class Poly:
         contents = "".join([content_of(key) for key in self.terms])
         return "".join(sorted(set(contents)))
 
-    def _triples(self):
+    def triples(self):
+        """Returns the list of the terms as triples of cyclic words, word and coefficient, in ascending order."""
         return [(cycles, word, ratio) for (cycles, word), ratio in self._ratios.items()]

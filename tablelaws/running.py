@@ -7,7 +7,7 @@ from tablelaws.matrices import Matrix, check_size
 def run_steps(program, size, matrices):
     """Returns the list of the values of all steps of a program at matrices of a size."""
     check_size(size)
-    _check_matrices(program.letters, size, matrices)
+    check_matrices(program.letters, size, matrices)
     values = []
     for step in program.steps:
         values.append(_step_value(step, values, size, matrices))
@@ -19,7 +19,8 @@ def run_program(program, size, matrices):
     return run_steps(program, size, matrices)[program.result]
 
 
-def _check_matrices(letters, size, matrices):
+def check_matrices(letters, size, matrices):
+    """Raises the error of the first letter that has no matrix (MissingMatrix) or one of another size (WrongSize)."""
     for letter in letters:
         if letter not in matrices:
             raise MissingMatrix(f"no matrix for the letter {letter}")

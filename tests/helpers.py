@@ -1,10 +1,17 @@
 """Values and independent computations that several tests share."""
 
 from fractions import Fraction
-from itertools import product
+from itertools import combinations, product
 
 from tablelaws.matrices import Matrix
+from tablelaws.permsums import PermSum
+from tablelaws.polys import Poly
 from tablelaws.ratios import Ratio
+
+SIZES = (1, 2, 3)
+KINDS = ("number", "matrix")
+# No sizes.
+NO_SIZES = (0, 4, -1, 7)
 
 
 def ratio(text):
@@ -30,6 +37,31 @@ def plain(value):
 def matrix_of(text):
     """The Matrix that is written as "1 2; 3/2 4"."""
     return Matrix([[ratio(entry) for entry in row.split()] for row in text.split(";")])
+
+
+def poly(kind, *terms):
+    """The Poly with terms such as ("1/2", ["x", "xy"], "yx")."""
+    return Poly(kind, [(cycles, word, ratio(text)) for text, cycles, word in terms])
+
+
+def perm_sum(places, **terms):
+    """The PermSum with terms such as p213="1/2"."""
+    return PermSum(places, [(tuple(map(int, name[1:])), ratio(text)) for name, text in terms.items()])
+
+
+def shown_sum(permsum):
+    """The permutations of a PermSum as texts such as "213", with the written forms of their coefficients."""
+    return [("".join(map(str, perm)), str(permsum[perm])) for perm in permsum.perms]
+
+
+def product_of(first, second):
+    """The product of two permutations by point 14."""
+    return tuple(first[second[j] - 1] for j in range(len(second)))
+
+
+def has_decreasing(perm, length):
+    """Whether a permutation has a decreasing subsequence of this length, by trying all of them."""
+    return any(all(a > b for a, b in zip(chosen, chosen[1:])) for chosen in combinations(perm, length))
 
 
 def unit_table(size):

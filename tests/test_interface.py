@@ -15,6 +15,13 @@ FUNCTIONS = {
     "reading": "read_program",
     "writing": "write_program",
     "running": "run_steps run_program",
+    "grids": "all_matrices first_difference",
+    "expanding": "expand_steps expand",
+    "parts": "contents_in part_of",
+    "evaluating": "value_at",
+    "replacing": "substitute renamed reversed_poly",
+    "notation": "show_poly read_poly",
+    "decreasing": "inversions longest_decreasing decreasing_places colours is_good",
 }
 CLASSES = {
     "ratios": ("Ratio", "__add__ __sub__ __mul__ __floordiv__ __neg__ __eq__ __bool__ __str__ read power"),

@@ -1,14 +1,13 @@
 import unittest
 from fractions import Fraction
 
-from helpers import (fraction, matrix_of, ratio, some_matrices, table, table_plus, table_scaled, table_times,
+from helpers import (SIZES, fraction, matrix_of, ratio, some_matrices, table, table_plus, table_scaled, table_times,
                      table_trace, unit_table)
 
 from tablelaws.errors import WrongSize
 from tablelaws.matrices import Matrix, check_size
 from tablelaws.ratios import Ratio
 
-SIZES = (1, 2, 3)
 WRONG = (0, -1, -3, 4, 5, 10 ** 12)
 
 

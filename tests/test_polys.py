@@ -1,16 +1,11 @@
 import unittest
 
-from helpers import plain, poly_value, ratio, some_matrices, table_plus, table_scaled, table_times, table_trace
+from helpers import plain, poly, poly_value, some_matrices, table_plus, table_scaled, table_times, table_trace
 
 from tablelaws.errors import WrongKind
 from tablelaws.permsums import PermSum
 from tablelaws.polys import Poly
 from tablelaws.ratios import Ratio
-
-
-def poly(kind, *terms):
-    """The polynomial with terms such as ("-1/2", ["x"], "yx")."""
-    return Poly(kind, [(cycles, word, ratio(text)) for text, cycles, word in terms])
 
 
 def shown(value):

@@ -1,7 +1,7 @@
 import unittest
 from fractions import Fraction
 
-from helpers import (matrix_of, plain, some_matrices, table, table_plus, table_scaled, table_times, table_trace,
+from helpers import (SIZES, matrix_of, plain, some_matrices, table, table_plus, table_scaled, table_times, table_trace,
                      unit_table)
 
 from tablelaws.errors import MissingMatrix, WrongSize
@@ -10,7 +10,6 @@ from tablelaws.programs import Program
 from tablelaws.ratios import Ratio
 from tablelaws.running import run_program, run_steps
 
-SIZES = (1, 2, 3)
 STEPS = [
     ("letter", "x"), ("letter", "y"), ("one",), ("const", Ratio(-2, 3)),
     ("sum", 0, 1), ("diff", 0, 1), ("times", 0, 1), ("times", 1, 0),

@@ -1,46 +1,19 @@
 import unittest
 
-from helpers import plain, poly_value, ratio, some_matrices
+from helpers import KINDS, SIZES, plain, poly, poly_value, some_matrices
 
 from tablelaws.errors import TooLarge
+from tablelaws.expanding import expand
 from tablelaws.polys import Poly
 from tablelaws.ratios import Ratio
 from tablelaws.reading import read_program
 from tablelaws.running import run_program
 from tablelaws.writing import write_program
 
-KINDS = ("number", "matrix")
 # Twelve different terms of degree 6, and as many of degree 5 with words.
 CYCLES = ["xxxxxx", "xxxxxy", "xxxxyy", "xxxyxy", "xxxyyy", "xxyyyy", "yyyyyy", "xyyyyy", "xyxyxy", "xxyxyy", "xxyxxy",
           "xyxyyy"]
 WORDS = ["xxxxx", "xxxxy", "xxxyx", "xxyxx", "xyxxx", "yxxxx", "xxxyy", "xxyyx", "xyyxx", "yyxxx", "yyyyy", "xyxyx"]
-
-
-def poly(kind, *terms):
-    return Poly(kind, [(cycles, word, ratio(text)) for text, cycles, word in terms])
-
-
-def expanded(program, size):
-    """The polynomial of the result by points 42 and 43."""
-    found = []
-    for word, *rest in program.steps:
-        if word == "letter":
-            found.append(Poly.letter(rest[0]))
-        elif word == "one":
-            found.append(Poly.constant("matrix", Ratio(1)))
-        elif word == "const":
-            found.append(Poly.constant("number", rest[0]))
-        elif word == "scale":
-            found.append(found[rest[1]].scaled(rest[0]))
-        elif word == "trace":
-            found.append(found[rest[0]].traced(size))
-        elif word == "power":
-            found.append(found[rest[0]].power(rest[1]))
-        else:
-            first, second = found[rest[0]], found[rest[1]]
-            found.append({"sum": lambda: first + second, "diff": lambda: first - second,
-                          "times": lambda: first * second}[word]())
-    return found[program.result]
 
 
 class WritingTest(unittest.TestCase):
@@ -50,8 +23,9 @@ class WritingTest(unittest.TestCase):
         program = read_program(text)
         self.assertEqual(program.kind, value.kind)
         self.assertEqual(program.letters, value.used_letters())
-        for size in (1, 2, 3):
-            self.assertEqual(expanded(program, size), value)
+        for size in SIZES:
+            self.assertEqual(expand(program, size), value)
+            self.assertEqual(expand(program, size).kind, value.kind)
             matrices = some_matrices(value.used_letters(), size, seed=size)
             self.assertEqual(plain(run_program(program, size, matrices)), poly_value(value, size, matrices))
 
