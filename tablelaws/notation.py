@@ -16,7 +16,8 @@ def show_poly(poly):
 
 def read_poly(text):
     """Returns the polynomial that a text writes."""
-    kind, *terms = text.split(" | ")
+    parts = text.split(" | ")
+    kind, *terms = parts
     if kind not in WORDS_OF_TERM:
         raise InvalidPolynomial(f"not a kind: {kind!r}")
     poly = Poly(kind, [_read_term(kind, term) for term in terms])

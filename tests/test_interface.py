@@ -22,6 +22,13 @@ FUNCTIONS = {
     "replacing": "substitute renamed reversed_poly",
     "notation": "show_poly read_poly",
     "decreasing": "inversions longest_decreasing decreasing_places colours is_good",
+    "listing": "all_permutations good_permutations",
+    "tableaux": "tableaux_of perm_of",
+    "counting": "shapes_of filling_count good_count",
+    "linearizing": "places_of linearize read_perm restitute",
+    "cells": "moved_row cell_of place_matrices choices_of chosen_sums linear_value",
+    "alternating": "alternating_sum relation_sum",
+    "reducing": "reduce_sum",
 }
 CLASSES = {
     "ratios": ("Ratio", "__add__ __sub__ __mul__ __floordiv__ __neg__ __eq__ __bool__ __str__ read power"),
