@@ -3,7 +3,7 @@
 from math import factorial
 
 from tablelaws.errors import TooLarge, WrongSize
-from tablelaws.parts import part_of
+from tablelaws.parts import contents_in, part_of
 from tablelaws.perms import cycles_of
 from tablelaws.permsums import PermSum
 from tablelaws.polys import Poly
@@ -16,6 +16,13 @@ MOST_PLACES = 6
 def places_of(content, kind):
     """Returns the number of places of a content: one for each letter, and for kind matrix the mark's place."""
     return len(content) + (1 if kind == "matrix" else 0)
+
+
+def check_places(poly, most=MOST_PLACES):
+    """Raises TooLarge if a term of a polynomial has more places than `most`."""
+    for content in contents_in(poly):
+        if places_of(content, poly.kind) > most:
+            raise TooLarge(f"a term with the content {content} has more than {most} places")
 
 
 def linearize(poly, content):

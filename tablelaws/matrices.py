@@ -119,7 +119,10 @@ def _check_same_size(first, second):
 
 
 def _row_times_column(row, column):
-    total = Ratio(0)
+    # The sum is reduced once, at its end: this is where most of the time of a run goes.
+    num, den = 0, 1
     for a, b in zip(row, column):
-        total = total + a * b
-    return total
+        if a.num and b.num:
+            divisor = a.den * b.den
+            num, den = num * divisor + a.num * b.num * den, den * divisor
+    return Ratio(num, den)

@@ -13,3 +13,11 @@ def part_of(poly, content):
     """Returns the polynomial that consists of the terms with this content."""
     triples = poly.triples()
     return Poly(poly.kind, [triple for triple in triples if content_of((triple[0], triple[1])) == content])
+
+
+def parts_in(poly):
+    """Returns the list of the pairs of a content in a polynomial and the part for it, in ascending order."""
+    found = {content: [] for content in contents_in(poly)}
+    for cycles, word, ratio in poly.triples():
+        found[content_of((cycles, word))].append((cycles, word, ratio))
+    return [(content, Poly(poly.kind, triples)) for content, triples in found.items()]

@@ -5,7 +5,7 @@ from tablelaws.errors import InvalidPermutation
 
 def check_permutation(perm, places):
     """Raises InvalidPermutation if the tuple is not a permutation of that number of places."""
-    if len(perm) != places or not all([place in perm for place in range(1, places + 1)]):
+    if sorted(perm) != list(range(1, places + 1)):
         raise InvalidPermutation(f"not a permutation of {places} places: {perm}")
 
 

@@ -3,9 +3,10 @@
 from tablelaws.alternating import relation_sum
 from tablelaws.decreasing import decreasing_places
 from tablelaws.errors import TooLarge
-from tablelaws.linearizing import MOST_PLACES
+from tablelaws.linearizing import MOST_PLACES, check_places, linearize
 from tablelaws.listing import all_permutations
 from tablelaws.matrices import check_size
+from tablelaws.parts import parts_in
 from tablelaws.permsums import PermSum
 
 
@@ -26,6 +27,17 @@ def reduce_sum(size, permsum):
                 relations.append(relation)
                 _subtract(relation_sum(places, relation), rest)
     return (PermSum(places, list(rest.items())), relations)
+
+
+def reduce_parts(size, poly):
+    """Returns a list with one tuple for each content in a polynomial: the content and what `reduce_sum` finds."""
+    check_size(size)
+    check_places(poly)
+    found = []
+    for content, part in parts_in(poly):
+        good, relations = reduce_sum(size, linearize(part, content))
+        found.append((content, good, relations))
+    return found
 
 
 def _subtract(permsum, rest):

@@ -29,6 +29,13 @@ FUNCTIONS = {
     "cells": "moved_row cell_of place_matrices choices_of chosen_sums linear_value",
     "alternating": "alternating_sum relation_sum",
     "reducing": "reduce_sum",
+    "certificates": "certify accepts conclusion",
+    "normalforms": "normal_form is_zero",
+    "witnesses": "witness_for",
+    "verdicts": "compare_polys compare_programs alike_sizes",
+    "probes": "probe_of probes_of",
+    "learning": "from_values run_probe learn",
+    "combining": "combine independent words_of trace_free",
 }
 CLASSES = {
     "ratios": ("Ratio", "__add__ __sub__ __mul__ __floordiv__ __neg__ __eq__ __bool__ __str__ read power"),
@@ -38,6 +45,10 @@ CLASSES = {
                       "constant scaled power traced used_letters"),
     "permsums": ("PermSum", "__add__ __sub__ __mul__ __neg__ __eq__ __getitem__ __contains__ __len__ __iter__ scaled"),
     "programs": ("Program", "__init__"),
+    "certificates": ("Certificate", "__add__ __neg__ __eq__ __iter__ contents well_formed empty scaled"),
+    "verdicts": ("Verdict", "__init__ __bool__"),
+    "probes": ("Probe", "__eq__ __call__"),
+    "combining": ("Combination", "__init__ __bool__ tested"),
 }
 # Modules of Python that LANGUAGE.md allows here.
 LIBRARY = ("math",)
