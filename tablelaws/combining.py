@@ -38,7 +38,8 @@ class Combination:
 
 def combine(size, poly, others):
     """Returns the combination of other polynomials to which a polynomial is alike, or a test that there is none."""
-    _check_polys(size, [*others, poly])
+    check_size(size)
+    _check_kinds([*others, poly])
     rows = _rows_of(size, others)
     values, factors = _reduced(_values_of(size, poly), {}, rows)
     if values:
@@ -48,9 +49,10 @@ def combine(size, poly, others):
 
 def independent(size, polys):
     """Returns the ascending list of the indices of the polynomials that no earlier ones combine to."""
-    _check_polys(size, polys)
+    check_size(size)
+    _check_kinds(polys)
     rows = _rows_of(size, polys)
-    return sorted([max(list(factors)) for values, factors in rows.values()])
+    return [max(list(factors)) for values, factors in rows.values()]
 
 
 def words_of(content):
@@ -79,12 +81,9 @@ def trace_free(size, poly):
     return (Poly("matrix", triples), None)
 
 
-def _check_polys(size, polys):
-    check_size(size)
+def _check_kinds(polys):
     if any([poly.kind != polys[0].kind for poly in polys]):
         raise WrongKind("polynomials of different kinds")
-    for poly in polys:
-        check_places(poly)
 
 
 def _values_of(size, poly):

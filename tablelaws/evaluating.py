@@ -25,7 +25,8 @@ def product_along(word, products):
     """Returns the product along a word, from left to right.
 
     `products` is a dict with the products along the empty word and along each letter. The products along the
-    word and its beginnings are added to it, as many words of a polynomial begin alike.
+    word and its beginnings are added to it, as many words of a polynomial begin alike. A tuple of strings, too, is
+    such a word; its letters are the strings.
     """
     if word not in products:
         products[word] = product_along(word[:-1], products) * products[word[-1]]

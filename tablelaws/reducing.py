@@ -3,7 +3,7 @@
 from tablelaws.alternating import relation_sum
 from tablelaws.decreasing import decreasing_places
 from tablelaws.errors import TooLarge
-from tablelaws.linearizing import MOST_PLACES, check_places, linearize
+from tablelaws.linearizing import MOST_PLACES, linearize
 from tablelaws.listing import all_permutations
 from tablelaws.matrices import check_size
 from tablelaws.parts import parts_in
@@ -32,7 +32,6 @@ def reduce_sum(size, permsum):
 def reduce_parts(size, poly):
     """Returns a list with one tuple for each content in a polynomial: the content and what `reduce_sum` finds."""
     check_size(size)
-    check_places(poly)
     found = []
     for content, part in parts_in(poly):
         good, relations = reduce_sum(size, linearize(part, content))

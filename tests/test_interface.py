@@ -36,6 +36,13 @@ FUNCTIONS = {
     "probes": "probe_of probes_of",
     "learning": "from_values run_probe learn",
     "combining": "combine independent words_of trace_free",
+    "standard": "standard split_standard standard_value",
+    "staircases": "stair_arrows doubled_arrows staircase staircase_entry doubled_staircase doubled_entry",
+    "wordlaws": "word_witness",
+    "trails": "trails balance",
+    "onematrix": "elementary characteristic reduce_one diagonal_matrix diagonal_witness",
+    "pairs": "reduce_pair",
+    "reports": "report matrix_lines point_lines",
 }
 CLASSES = {
     "ratios": ("Ratio", "__add__ __sub__ __mul__ __floordiv__ __neg__ __eq__ __bool__ __str__ read power"),
@@ -49,6 +56,8 @@ CLASSES = {
     "verdicts": ("Verdict", "__init__ __bool__"),
     "probes": ("Probe", "__eq__ __call__"),
     "combining": ("Combination", "__init__ __bool__ tested"),
+    "bench": ("Bench", "__init__ __len__ __contains__ __iter__ __getitem__ load reload drop resize all_letters normal "
+                       "compare results classes separator"),
 }
 # Modules of Python that LANGUAGE.md allows here.
 LIBRARY = ("math",)

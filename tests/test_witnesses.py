@@ -22,6 +22,9 @@ for count in range(1, 7):
 STEEP.append(poly("number", ("1", ["x"], ""), ("-1", ["y"], "")))
 STEEP.append(poly("number", ("1", list("xxx"), ""), ("-1", list("xyz"), "")))
 STEEP.append(STEEP[2] * STEEP[2])
+# The numbers by which the matrices are multiplied depend on each other.
+STEEP.append(poly("number", ("1", list("xxy"), ""), ("-1", list("xyy"), "")))
+STEEP.append(poly("number", ("2", list("xxyz"), ""), ("-3", list("xyyz"), ""), ("1", list("xyzz"), "")))
 STEEP.append(poly("matrix", ("1", ["x"], ""), ("-1", ["y"], "")) * poly("matrix", ("1", ["x"], ""), ("-2", ["y"], ""))
              * poly("matrix", ("1", ["x"], ""), ("-3", ["y"], "")))
 STEEP.append(poly("matrix", ("1", [], "xy"), ("-1", [], "yx"), ("1", [], "x"), ("-1", ["y"], "x")))
