@@ -42,7 +42,8 @@ HALL = text("xy", "s", *PRODUCT, "r = diff p q", "s = power r 2")
 HALF = text("xy", "h", *PRODUCT, "r = diff p q", "s = power r 2", "T = trace s", "U = scale 1/2 T", "o = one",
             "h = times U o")
 BAD = "letters x\nlet y = sum x z\ngive y"
-TEXTS = {"xy": XY, "yx": YX, "bracket": BRACKET, "zero": ZERO, "one": ONE, "txy": TRACE_XY, "tyx": TRACE_YX, "tt": TRACES}
+TEXTS = {"xy": XY, "yx": YX, "bracket": BRACKET, "zero": ZERO, "one": ONE, "txy": TRACE_XY,
+         "tyx": TRACE_YX, "tt": TRACES}
 NOT_NAMES = ("", "A", "Ab", "aB", "a1", "a b", " a", "a_b", "abcdefghi", "a\n", "-", "ab.")
 
 
@@ -269,7 +270,8 @@ class ClassesTest(unittest.TestCase):
         bench = bench_of(1, TEXTS)
         self.assertEqual(bench.classes(), (("xy", "yx"), ("bracket", "zero"), ("one",), ("txy", "tyx", "tt")))
         bench.resize(2)
-        self.assertEqual(bench.classes(), (("xy",), ("yx",), ("bracket",), ("zero",), ("one",), ("txy", "tyx"), ("tt",)))
+        self.assertEqual(bench.classes(),
+                         (("xy",), ("yx",), ("bracket",), ("zero",), ("one",), ("txy", "tyx"), ("tt",)))
         bench.drop("xy")
         bench.load("xy", YX)
         self.assertEqual(bench.classes(), (("yx", "xy"), ("bracket",), ("zero",), ("one",), ("txy", "tyx"), ("tt",)))

@@ -18,7 +18,8 @@ THIRD = ("xy", Ratio(4), (1, 2, 3), (2, 3))
 BRACKET = read_poly("matrix | 1 - xy | -1 - yx")
 SQUARE = read_poly("matrix | 1 - xx | -1 (x) x | 1/2 (x)(x) - | -1/2 (xx) -")
 LONG = (poly("number", ("1", ["xxxxxxx"], "")), poly("matrix", ("1", [], "xyxyxy")),
-        poly("matrix", ("1", ["xxx", "yyy"], ""), ("1", [], "x")), poly("number", ("1", ["x"], ""), ("2", ["x"] * 7, "")))
+        poly("matrix", ("1", ["xxx", "yyy"], ""), ("1", [], "x")),
+        poly("number", ("1", ["x"], ""), ("2", ["x"] * 7, "")))
 
 
 def certificate(*relations, size=1, kind="matrix"):
@@ -257,8 +258,8 @@ class AcceptsTest(unittest.TestCase):
 
     def test_too_large_whatever_the_certificate_is(self):
         for long in LONG:
-            for found in (Certificate.empty(1, long.kind), Certificate.empty(1, "number"), Certificate.empty(9, "matrix"),
-                          certificate(("ba", Ratio(1), (), ())), certify(1, BRACKET)):
+            for found in (Certificate.empty(1, long.kind), Certificate.empty(1, "number"),
+                          Certificate.empty(9, "matrix"), certificate(("ba", Ratio(1), (), ())), certify(1, BRACKET)):
                 with self.assertRaises(TooLarge):
                     accepts(found, long)
         six = poly("number", ("1", ["xxxxxx"], ""), ("1", ["abcdef"], ""))

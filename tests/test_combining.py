@@ -116,11 +116,13 @@ class CombineTest(CombineCase):
         self.assert_possible(1, YX, [XY, XY], ["1", "0"])
         self.assert_impossible(2, YX, [XY, XY])
         # The law of Cayley and Hamilton gives x x from x and the identity matrix, with traces.
-        traces = [poly("matrix", ("1", ["x"], "x")), poly("matrix", ("1", ["x", "x"], "")), poly("matrix", ("1", ["xx"], ""))]
+        traces = [poly("matrix", ("1", ["x"], "x")), poly("matrix", ("1", ["x", "x"], "")),
+                  poly("matrix", ("1", ["xx"], ""))]
         self.assert_possible(2, X * X, traces, ["1", "-1/2", "1/2"])
         self.assert_possible(1, X * X, traces, ["1", "0", "0"])
         self.assert_impossible(3, X * X, traces)
-        self.assert_possible(2, X.scaled(ratio("3/2")), [poly("matrix"), X.scaled(Ratio(2)), Y, X], ["0", "3/4", "0", "0"])
+        self.assert_possible(2, X.scaled(ratio("3/2")), [poly("matrix"), X.scaled(Ratio(2)), Y, X],
+                             ["0", "3/4", "0", "0"])
         self.assert_possible(3, X + Y, [X - Y, X + Y + Y], ["1/3", "2/3"])
 
     def test_the_empty_list(self):
@@ -145,7 +147,8 @@ class CombineTest(CombineCase):
         """A polynomial that earlier ones combine to gets the factor 0."""
         others = [X, Y, X + Y, X - Y, XY]
         for size in SIZES:
-            self.assert_possible(size, X.scaled(Ratio(2)) + Y.scaled(Ratio(-3)) + XY, others, ["2", "-3", "0", "0", "1"])
+            value = X.scaled(Ratio(2)) + Y.scaled(Ratio(-3)) + XY
+            self.assert_possible(size, value, others, ["2", "-3", "0", "0", "1"])
             self.assert_possible(size, X + Y, [X + Y, X, Y], ["1", "0", "0"])
             self.assert_possible(size, Y, [X + Y, X, Y], ["1", "-1", "0"])
         for size in SIZES:

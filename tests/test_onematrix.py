@@ -115,7 +115,8 @@ class ReduceTest(unittest.TestCase):
 
     def test_short_polynomials_stay(self):
         for size in SIZES:
-            for value in (poly("number"), poly("matrix"), poly("number", ("3", [], "")), poly("matrix", ("-1/2", [], "")),
+            for value in (poly("number"), poly("matrix"), poly("number", ("3", [], "")),
+                          poly("matrix", ("-1/2", [], "")),
                           poly("matrix", ("1", ["x"], ""), ("2", ["x" * size, "x"], "x" * (size - 1))),
                           poly("number", ("1", ["z", "z"], ""), ("5", ["z" * size], ""))):
                 self.assertEqual(reduce_one(size, value), value)
@@ -245,7 +246,8 @@ class DiagonalWitnessTest(unittest.TestCase):
             for value in TWO_LETTERS + (long_pair,):
                 with self.assertRaises(InvalidPolynomial):
                     diagonal_witness(size, value)
-            for value in (long, poly("matrix", ("1", [], "xxxxxxx")), poly("matrix", ("1", ["xxxx"], "xxx"), ("1", [], ""))):
+            for value in (long, poly("matrix", ("1", [], "xxxxxxx")),
+                          poly("matrix", ("1", ["xxxx"], "xxx"), ("1", [], ""))):
                 with self.assertRaises(TooLarge):
                     diagonal_witness(size, value)
             self.assertEqual(diagonal_witness(size, poly("number", ("1", ["xxxxxx"], ""))), (0,) * (size - 1) + (1,))

@@ -187,7 +187,8 @@ class ProbesOfTest(unittest.TestCase):
                     with self.assertRaises(WrongSize):
                         probes_of(size, content, kind)
         for size in SIZES:
-            for content, kind in (("x" * 7, "number"), ("abcdefg", "number"), ("x" * 6, "matrix"), ("x" * 20, "number")):
+            for content, kind in (("x" * 7, "number"), ("abcdefg", "number"), ("x" * 6, "matrix"),
+                                  ("x" * 20, "number")):
                 with self.assertRaises(TooLarge):
                     probes_of(size, content, kind)
 

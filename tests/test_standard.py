@@ -1,7 +1,8 @@
 import unittest
 from itertools import combinations, permutations
 
-from helpers import NO_SIZES, SIZES, matrix_of, poly, some_matrices, table, table_plus, table_scaled, table_times, unit_table
+from helpers import (NO_SIZES, SIZES, matrix_of, poly, some_matrices, table, table_plus, table_scaled, table_times,
+                     unit_table)
 
 from tablelaws.errors import TooLarge, WrongSize
 from tablelaws.evaluating import value_at

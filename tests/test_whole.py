@@ -50,7 +50,14 @@ ONE = drawn_poly("matrix", "x", 5, 6, 3)
 ZERO = law("matrix", "x", "y")
 BRACKET = poly("matrix", ("1", [], "xy"), ("-1", [], "yx"))
 SUM = perm_sum(4, p4321="1", p1234="-2", p3412="1/2")
-TEXT = "letters x y\ndef f a b\nlet p = times a b\nend p\nlet q = call f y x\nlet r = call f x y\nlet s = diff q r\ngive s"
+TEXT = """letters x y
+def f a b
+let p = times a b
+end p
+let q = call f y x
+let r = call f x y
+let s = diff q r
+give s"""
 PROGRAM = read_program(TEXT)
 SQUARE = Program("x", [("letter", "x"), ("power", 0, 2)], 1)
 POINT = some_matrices("xyz", 2)
