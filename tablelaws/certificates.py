@@ -1,6 +1,6 @@
 """Certificates: lists of relations that show that a polynomial is zero at a size."""
 
-from tablelaws.alternating import relation_sum
+from tablelaws.alternating import relation_terms, signed_orders
 from tablelaws.errors import InvalidPermutation, WrongKind, WrongSize
 from tablelaws.linearizing import MOST_PLACES, check_places, linearize, places_of, restitute
 from tablelaws.matrices import check_size
@@ -88,7 +88,7 @@ def conclusion(certificate):
         raise InvalidPermutation("a relation is not well formed")
     triples = []
     for content, total in _totals(certificate).items():
-        triples = triples + restitute(total, content, certificate.kind).triples()
+        triples.extend(restitute(total, content, certificate.kind).triples())
     return Poly(certificate.kind, triples)
 
 
@@ -102,9 +102,9 @@ def _is_well_formed(size, kind, relation):
 
 
 def _totals(certificate):
-    """Returns the dict from the contents of the relations to the sums of the sums of their relations."""
+    """Returns the dict from the contents of the relations to their totals."""
+    orders = signed_orders(certificate.size + 1)
     terms = {content: [] for content in certificate.contents}
     for content, ratio, perm, chosen in certificate.relations:
-        places = places_of(content, certificate.kind)
-        terms[content].extend(relation_sum(places, (ratio, perm, chosen)).pairs())
+        terms[content].extend(relation_terms((ratio, perm, chosen), orders))
     return {content: PermSum(places_of(content, certificate.kind), terms[content]) for content in terms}

@@ -1,6 +1,6 @@
 """Reducing sums of permutations to good permutations by relations."""
 
-from tablelaws.alternating import relation_sum
+from tablelaws.alternating import relation_terms, signed_orders
 from tablelaws.decreasing import decreasing_places
 from tablelaws.errors import TooLarge
 from tablelaws.linearizing import MOST_PLACES, linearize
@@ -18,6 +18,7 @@ def reduce_sum(size, permsum):
         raise TooLarge(f"{places} places")
     rest = {perm: ratio for perm, ratio in permsum.pairs()}
     relations = []
+    orders = signed_orders(size + 1)
     # A relation of a permutation changes only lesser ones besides, so each permutation is met once.
     for perm in all_permutations(places, descending=True):
         if perm in rest and rest[perm]:
@@ -25,7 +26,7 @@ def reduce_sum(size, permsum):
             if chosen is not None:
                 relation = (rest[perm], perm, chosen)
                 relations.append(relation)
-                _subtract(relation_sum(places, relation), rest)
+                _subtract(relation_terms(relation, orders), rest)
     return (PermSum(places, list(rest.items())), relations)
 
 
@@ -39,7 +40,7 @@ def reduce_parts(size, poly):
     return found
 
 
-def _subtract(permsum, rest):
-    """Subtracts a sum from the dict `rest` from permutations to coefficients."""
-    for perm, ratio in permsum.pairs():
+def _subtract(terms, rest):
+    """Subtracts permutations with coefficients from the dict `rest` from permutations to coefficients."""
+    for perm, ratio in terms:
         rest[perm] = rest[perm] - ratio if perm in rest else -ratio
