@@ -54,7 +54,6 @@ def reduce_one(size, poly):
 
 def diagonal_matrix(*entries):
     """Returns the matrix with these entries on its diagonal and zeros elsewhere."""
-    check_size(len(entries))
     size = len(entries)
     return Matrix([[entries[row] if row == column else 0 for column in range(size)] for row in range(size)])
 
